@@ -1,0 +1,1 @@
+"""Records are read and told as leaves; values are turned to codes."""

@@ -1,0 +1,126 @@
+"""The calls on one object that holds records, and their answers."""
+
+from leafvalues.coding import codes_of
+from leafvalues.faults import Fault, NoRecords, NoSuchLeaf, NoSuchRecord, Refusal, UnknownCall
+from leafvalues.reader import read_records
+from leafvalues.shapes import one_form
+
+LOAD = 0
+SHOWN = 1
+LEAVES = 2
+LEAF = 3
+CODES = 4
+
+
+class Line:
+    """The calls that are handed in, number by number."""
+
+    def __init__(self, numbers):
+        self.numbers = numbers
+        self.reached = 0
+
+    def ended(self):
+        return self.reached == len(self.numbers)
+
+    def take_whole(self):
+        self.reached += 1
+        return self.numbers[self.reached - 1]
+
+    def take_row(self):
+        start = self.reached + 1
+        self.reached = start + self.numbers[self.reached]
+        return self.numbers[start:self.reached]
+
+
+class Holder:
+    """The records that are held; none at first."""
+
+    def __init__(self):
+        self.records = []
+
+    def hold(self, records):
+        self.records = records
+
+    def all_records(self):
+        if not self.records:
+            raise NoRecords()
+        return self.records
+
+    def leaves_of(self, number):
+        records = self.all_records()
+        if not 0 <= number < len(records):
+            raise NoSuchRecord()
+        return records[number].leaves
+
+
+def bytes_of(text):
+    return [ord(sign) for sign in text]
+
+
+def load(holder, text):
+    try:
+        records = read_records(text)
+    except Fault as fault:
+        return [0, fault.code, fault.place]
+    holder.hold(records)
+    return [1, len(records)] + [len(record.leaves) for record in records]
+
+
+def shown(holder):
+    told = bytes_of(one_form(holder.all_records()))
+    return [len(told)] + told
+
+
+def tell_leaves(holder, record):
+    widths = [leaf.width() for leaf in holder.leaves_of(record)]
+    return [len(widths), sum(widths)] + widths
+
+
+def tell_leaf(holder, record, number):
+    found = holder.leaves_of(record)
+    if not 0 <= number < len(found):
+        raise NoSuchLeaf()
+    leaf = found[number]
+    name = bytes_of(leaf.name)
+    told = [1, len(name)] + name
+    told.extend([leaf.least, leaf.greatest, leaf.width(), leaf.kind, leaf.aligned, leaf.hot, len(leaf.guards)])
+    for tag, code in leaf.guards:
+        told.extend([tag, code])
+    return told
+
+
+def tell_codes(holder, record, value):
+    codes = codes_of(holder.leaves_of(record), value)
+    return [len(codes)] + codes
+
+
+def answer_of(holder, line):
+    """The answer to the next call of the line; what the call has is taken first, refused or not."""
+    call = line.take_whole()
+    if call == LOAD:
+        return load(holder, line.take_row())
+    if call == SHOWN:
+        return shown(holder)
+    record = line.take_whole()
+    if call == LEAVES:
+        return tell_leaves(holder, record)
+    if call == LEAF:
+        return tell_leaf(holder, record, line.take_whole())
+    if call == CODES:
+        return tell_codes(holder, record, line.take_row())
+    raise UnknownCall(call)
+
+
+def answers(calls):
+    """For each call in order: how many numbers are answered, and they."""
+    holder = Holder()
+    line = Line(calls)
+    told = []
+    while not line.ended():
+        try:
+            answer = answer_of(holder, line)
+        except Refusal as refusal:
+            answer = [refusal.answer]
+        told.append(len(answer))
+        told.extend(answer)
+    return told
