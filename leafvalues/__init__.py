@@ -1,1 +1,1 @@
-"""Records are read and told as leaves; values are turned to codes."""
+"""Records are read and told as leaves; values are turned to codes and back, counted, and numbered in order."""

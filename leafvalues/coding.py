@@ -1,4 +1,4 @@
-"""Values, turned to codes.
+"""Values, turned to codes and back.
 
 A value tells just its leaves that are there, in order: a maybe's 0 or 1 and
 a one's alternative are their tags. So it is gone through leaf by leaf.
@@ -27,3 +27,19 @@ def codes_of(leaves, value):
     if used < len(value):
         raise NoValue()
     return codes
+
+
+def value_of(leaves, codes):
+    """The value that has these codes; the list has to be the codes of one."""
+    if len(codes) != len(leaves):
+        raise NoValue()
+    value = []
+    for leaf, code in zip(leaves, codes):
+        if not is_there(leaf, codes):
+            if code != -1:
+                raise NoValue()
+        elif 0 <= code <= leaf.greatest_code():
+            value.append(leaf.least + code)
+        else:
+            raise NoValue()
+    return value

@@ -40,18 +40,25 @@ class NoSuchRecord(Refusal):
         Refusal.__init__(self, -2)
 
 
-class NoSuchLeaf(Refusal):
-    """No leaf of the record has this number."""
+class NoSuchLeafOrValue(Refusal):
+    """No leaf of the record, or no value of it, has this number."""
 
     def __init__(self):
         Refusal.__init__(self, -3)
 
 
 class NoValue(Refusal):
-    """The list is no value of the record."""
+    """The list is no value of the record, or not the codes of one."""
 
     def __init__(self):
         Refusal.__init__(self, -4)
+
+
+class TooManyValues(Refusal):
+    """The record has more values than are numbered."""
+
+    def __init__(self):
+        Refusal.__init__(self, -6)
 
 
 class UnknownCall(Exception):

@@ -1,7 +1,10 @@
 """The calls on one object that holds records, and their answers."""
 
-from leafvalues.coding import codes_of
-from leafvalues.faults import Fault, NoRecords, NoSuchLeaf, NoSuchRecord, Refusal, UnknownCall
+from leafvalues.coding import codes_of, value_of
+from leafvalues.faults import (
+    Fault, NoRecords, NoSuchLeafOrValue, NoSuchRecord, Refusal, TooManyValues, UnknownCall,
+)
+from leafvalues.numbering import width_for
 from leafvalues.reader import read_records
 from leafvalues.shapes import one_form
 
@@ -10,6 +13,12 @@ SHOWN = 1
 LEAVES = 2
 LEAF = 3
 CODES = 4
+VALUE = 5
+COUNT = 6
+NTH = 7
+INDEX = 8
+
+MOST_VALUES = 1000000000000000000
 
 
 class Line:
@@ -46,11 +55,21 @@ class Holder:
             raise NoRecords()
         return self.records
 
-    def leaves_of(self, number):
+    def record_at(self, number):
         records = self.all_records()
         if not 0 <= number < len(records):
             raise NoSuchRecord()
-        return records[number].leaves
+        return records[number]
+
+    def leaves_of(self, number):
+        return self.record_at(number).leaves
+
+    def numbered_record_at(self, number):
+        """The record, if its values are numbered: there may be too many."""
+        record = self.record_at(number)
+        if record.total > MOST_VALUES:
+            raise TooManyValues()
+        return record
 
 
 def bytes_of(text):
@@ -79,7 +98,7 @@ def tell_leaves(holder, record):
 def tell_leaf(holder, record, number):
     found = holder.leaves_of(record)
     if not 0 <= number < len(found):
-        raise NoSuchLeaf()
+        raise NoSuchLeafOrValue()
     leaf = found[number]
     name = bytes_of(leaf.name)
     told = [1, len(name)] + name
@@ -92,6 +111,29 @@ def tell_leaf(holder, record, number):
 def tell_codes(holder, record, value):
     codes = codes_of(holder.leaves_of(record), value)
     return [len(codes)] + codes
+
+
+def tell_value(holder, record, codes):
+    value = value_of(holder.leaves_of(record), codes)
+    return [len(value)] + value
+
+
+def tell_count(holder, record):
+    total = holder.numbered_record_at(record).total
+    return [total, width_for(total - 1)]
+
+
+def tell_nth(holder, record, number):
+    found = holder.numbered_record_at(record)
+    if not 0 <= number < found.total:
+        raise NoSuchLeafOrValue()
+    value = found.value_at(number)
+    return [len(value)] + value
+
+
+def tell_index(holder, record, value):
+    found = holder.numbered_record_at(record)
+    return [found.number_at(codes_of(found.leaves, value))]
 
 
 def answer_of(holder, line):
@@ -108,6 +150,14 @@ def answer_of(holder, line):
         return tell_leaf(holder, record, line.take_whole())
     if call == CODES:
         return tell_codes(holder, record, line.take_row())
+    if call == VALUE:
+        return tell_value(holder, record, line.take_row())
+    if call == COUNT:
+        return tell_count(holder, record)
+    if call == NTH:
+        return tell_nth(holder, record, line.take_whole())
+    if call == INDEX:
+        return tell_index(holder, record, line.take_row())
     raise UnknownCall(call)
 
 

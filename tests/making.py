@@ -4,15 +4,22 @@
 ("one", [(name, T), ..]), ("named", record); a record is (name, [(name, T, hot), ..]).
 """
 
+import itertools
+import math
+
 NAMES = ("a", "b", "c", "d", "some", "P", "Q7", "x1", "Zz", "longnameof16byte")
 
 
 class Maker:
-    def __init__(self, source):
+    def __init__(self, source, few_values=False):
         self.source = source
+        self.few_values = few_values
 
     def number(self):
         source = self.source
+        if self.few_values:
+            first = source.randint(-2, 2)
+            return ("number", first, first + source.choice((0, 1, 1, 2)), 1)
         spread = source.choice((0, 1, 2, 3, 7, 8, 100, 1000000))
         first = source.randint(-1000000, 1000000 - spread) if source.random() < 0.3 else source.randint(-3, 0)
         return ("number", first, first + spread if first + spread <= 1000000 else first, source.choice((1, 1, 2, 4, 8, 16, 32)))
@@ -44,7 +51,7 @@ class Maker:
 
     def record(self, name, records):
         source = self.source
-        fields, room = [], source.randint(1, 24)
+        fields, room = [], source.randint(1, 8 if self.few_values else 24)
         for field_name in source.sample(NAMES, source.randint(1, 5)):
             if room > 0:
                 told = self.sort(records, 1, source.randint(1, room))
@@ -177,3 +184,49 @@ def bits(count):
     while 2 ** width < count:
         width += 1
     return width
+
+
+def parts_of(told):
+    """What stands one behind the other in a many or a named record."""
+    return [told[2]] * told[1] if told[0] == "many" else [inner for name, inner, hot in told[1][1]]
+
+
+def count_of(told):
+    """How many values a type has."""
+    if told[0] == "number":
+        return told[2] - told[1] + 1
+    if told[0] == "maybe":
+        return 1 + count_of(told[1])
+    if told[0] == "one":
+        return sum(count_of(inner) for name, inner in told[1])
+    return math.prod(count_of(part) for part in parts_of(told))
+
+
+def all_values(told):
+    """All values of a type, in order."""
+    if told[0] == "number":
+        return [[number] for number in range(told[1], told[2] + 1)]
+    if told[0] == "maybe":
+        return [[0]] + [[1] + value for value in all_values(told[1])]
+    if told[0] == "one":
+        return [[number] + value for number, (name, inner) in enumerate(told[1]) for value in all_values(inner)]
+    return [sum(row, []) for row in itertools.product(*[all_values(part) for part in parts_of(told)])]
+
+
+def rank(told, value):
+    """The number of a value: at each of its numbers, how many values have a lower one there, and all before it."""
+    todo, found = [told], 0
+    for number in value:
+        while todo[-1][0] in ("many", "named"):
+            todo.extend(reversed(parts_of(todo.pop())))
+        part = todo.pop()
+        behind = math.prod(count_of(other) for other in todo)
+        if part[0] == "number":
+            found += (number - part[1]) * behind
+        elif part[0] == "maybe":
+            found += number * behind
+            todo.extend([part[1]] * number)
+        else:
+            found += sum(count_of(inner) for name, inner in part[1][:number]) * behind
+            todo.append(part[1][number][1])
+    return found

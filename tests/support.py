@@ -39,8 +39,24 @@ def leaf(r, i):
     return [3, r, i]
 
 
-def codes(r, *value):
-    return [4, r, len(value), *value]
+def codes(r, *told):
+    return [4, r, len(told), *told]
+
+
+def value(r, *told):
+    return [5, r, len(told), *told]
+
+
+def count(r):
+    return [6, r]
+
+
+def nth(r, n):
+    return [7, r, n]
+
+
+def index(r, *told):
+    return [8, r, len(told), *told]
 
 
 def split(told):
@@ -61,6 +77,14 @@ def ask(*calls):
     if not all(type(number) is int for number in told):
         raise AssertionError("an answer is no whole number")
     return split(told)
+
+
+def ask_all(text, calls):
+    """The answers to however many calls on what the text tells, a hundred calls at a time."""
+    found = []
+    for start in range(0, len(calls), 99):
+        found += ask(load(text), *calls[start:start + 99])[1:]
+    return found
 
 
 def last(*calls):
@@ -96,5 +120,5 @@ class Told:
 
 def leaves_told(text, r):
     """All leaves of record r of the text, one by one."""
-    count = last(load(text), leaves(r))[0]
-    return [Told(last(load(text), leaf(r, i))) for i in range(count)]
+    found = last(load(text), leaves(r))[0]
+    return [Told(last(load(text), leaf(r, i))) for i in range(found)]

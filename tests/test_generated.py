@@ -5,10 +5,11 @@ import unittest
 
 import making
 import oracle
-from support import Told, ask, codes, data_of, leaf, leaves, load, shown
+from support import Told, ask, codes, count, data_of, index, leaf, leaves, load, nth, shown, value
 
 TEXTS = 300
 SPOILED = 12
+MOST = 10 ** 18
 SWAPS = (
     "record from to at maybe many one hot layout size of { } , ; : - . 0 1 2 3 8 9 1000 1001 1000000 1000001 01 R a b P"
 ).split()
@@ -54,10 +55,68 @@ class Generated(unittest.TestCase):
             for r, record in enumerate(records):
                 wanted = making.leaves_of_record(record)
                 for _ in range(5):
-                    value, told = maker.value(("named", record))
-                    answers = ask(load(text), codes(r, *value), codes(r, *value, 0), codes(r, *value[:-1]))[1:]
-                    self.assertEqual(answers, [[len(told), *told], [-4], [-4]], (text, value))
+                    tells, told = maker.value(("named", record))
+                    answers = ask(load(text), codes(r, *tells), codes(r, *tells, 0), codes(r, *tells[:-1]))[1:]
+                    self.assertEqual(answers, [[len(told), *told], [-4], [-4]], (text, tells))
                     self.check_guards(wanted, told)
+
+    def test_value(self):
+        for seed in range(TEXTS):
+            maker, records, words, text = made(seed)
+            for r, record in enumerate(records):
+                wanted = making.leaves_of_record(record)
+                for _ in range(3):
+                    tells, told = maker.value(("named", record))
+                    wrong = self.spoiled_codes(maker.source, wanted, told)
+                    calls = [value(r, *row) for row in [told, told + [-1], told[:-1]] + wrong]
+                    answers = ask(load(text), *calls)[1:]
+                    self.assertEqual(answers, [[len(tells), *tells]] + [[-4]] * (len(wrong) + 2), (text, told))
+
+    def spoiled_codes(self, source, wanted, told):
+        """Lists that differ at one leaf, and so that it can't be a value's code there."""
+        found = []
+        k = source.randrange(len(told))
+        for wrong in (-2, wanted[k][2] - wanted[k][1] + 1, -1 if told[k] >= 0 else 0, MOST, -MOST):
+            found.append(told[:k] + [wrong] + told[k + 1:])
+        return found
+
+    def test_count_nth_and_index(self):
+        numbered = {True: 0, False: 0}
+        for seed in range(TEXTS):
+            maker, records, words, text = made(seed)
+            for r, record in enumerate(records):
+                total = making.count_of(("named", record))
+                numbered[total <= MOST] += 1
+                if total <= MOST:
+                    self.check_numbers(maker, text, r, ("named", record), total)
+                else:
+                    tells = maker.value(("named", record))[0]
+                    calls = (count(r), nth(r, 0), nth(r, -1), nth(r, MOST), index(r, *tells), index(r))
+                    self.assertEqual(ask(load(text), *calls)[1:], [[-6]] * 6, text)
+        self.assertGreater(min(numbered.values()), 50)
+
+    def check_numbers(self, maker, text, r, told, total):
+        self.assertEqual(ask(load(text), count(r))[1], [total, making.bits(total)], text)
+        numbers = [0, total - 1] + [maker.source.randrange(total) for _ in range(4)]
+        found = [answer[1:] for answer in ask(load(text), *[nth(r, n) for n in numbers])[1:]]
+        self.assertEqual([making.rank(told, row) for row in found], numbers, text)
+        self.assertEqual(ask(load(text), *[index(r, *row) for row in found])[1:], [[n] for n in numbers], text)
+        rows = [maker.value(told)[0] for _ in range(4)]
+        ranks = [making.rank(told, row) for row in rows]
+        self.assertEqual(ask(load(text), *[index(r, *row) for row in rows])[1:], [[n] for n in ranks], text)
+        self.assertEqual(ask(load(text), *[nth(r, n) for n in ranks])[1:], [[len(row), *row] for row in rows], text)
+        self.assertEqual(ask(load(text), nth(r, total), nth(r, -1), index(r, *rows[0], 0))[1:], [[-3], [-3], [-4]])
+
+    def test_read_again(self):
+        """What shown tells is read as records that answer all calls alike."""
+        for seed in range(0, TEXTS, 3):
+            maker, records, words, text = made(seed)
+            form = bytes(ask(load(text), shown())[1][1:])
+            for r, record in enumerate(records):
+                tells, told = maker.value(("named", record))
+                calls = [leaf(r, i) for i in range(len(told))] + [leaves(r), shown(), count(r)]
+                calls += [codes(r, *tells), value(r, *told), index(r, *tells), nth(r, 0), nth(r, MOST // 7)]
+                self.assertEqual(ask(load(form), *calls), ask(load(text), *calls), text)
 
     def check_guards(self, wanted, told):
         """A leaf is there just if all its guards are so; its code is one of its codes."""

@@ -35,6 +35,7 @@ register mro elements open input version_info with_traceback add_note attrgetter
 credits delattr dir eval exec exit gc getattr globals hasattr help id importlib license locals methodcaller os quit
 setattr super vars sys format format_map chr
 """.split()
+WALKERS = ("list", "tuple", "dict", "sorted", "sum", "any", "all", "enumerate", "zip")
 CONSTANTS = (int, str, bool, type(None))
 
 
@@ -195,6 +196,30 @@ class Values(unittest.TestCase):
                     if isinstance(node, ast.Name):
                         self.assertIn(node.id, inside + tops + OWN_NAMES, (path, node.lineno))
                         self.assertNotIn(node.id, BANNED_NAMES, (path, node.lineno))
+
+    def test_powers_and_is(self):
+        for path, node in nodes(ast.BinOp):
+            if isinstance(node.op, ast.Pow):
+                self.assertIsInstance(node.right, ast.Constant, (path, node.lineno))
+        for path, node in nodes(ast.Compare):
+            for asked, right in zip(node.ops, node.comparators):
+                if isinstance(asked, (ast.Is, ast.IsNot)):
+                    self.assertIn(getattr(right, "value", 0), (None, True, False), (path, node.lineno))
+
+    def test_what_is_walked_on_the_spot(self):
+        """zip, reversed and their like stand behind an in, or as the first thing in a call that walks them."""
+        for path, tree in parsed():
+            walked = []
+            for node in ast.walk(tree):
+                if isinstance(node, (ast.For, ast.comprehension)):
+                    walked.append(node.iter)
+                elif isinstance(node, ast.Call) and getattr(node.func, "id", "") in WALKERS:
+                    walked.extend(node.args[:1])
+            for node in ast.walk(tree):
+                if isinstance(node, ast.Call):
+                    called = getattr(node.func, "id", getattr(node.func, "attr", ""))
+                    if called in ("zip", "enumerate", "reversed", "range", "items", "keys", "values"):
+                        self.assertIn(node, walked, (path, node.lineno))
 
     def test_methods(self):
         own = {node.name for path, node in nodes(ast.FunctionDef)}

@@ -2,7 +2,7 @@
 
 import unittest
 
-from support import WORKED, ask, field, form_of, last, leaf, leaves, load, shown
+from support import WORKED, ask, ask_all, codes, count, field, form_of, index, last, leaf, leaves, load, nth, shown, value
 
 
 class OneForm(unittest.TestCase):
@@ -61,8 +61,21 @@ class ReadAgain(unittest.TestCase):
             self.assertEqual(form_of(form), form)
             self.assertEqual(ask(load(text)), ask(load(form)))
             counts = ask(load(text))[0][2:]
-            calls = [call for r, count in enumerate(counts) for call in [leaves(r)] + [leaf(r, i) for i in range(count)]]
+            calls = [call for r, many in enumerate(counts) for call in [leaves(r)] + [leaf(r, i) for i in range(many)]]
             self.assertEqual(ask(load(text), *calls), ask(load(form), *calls))
+            self.same_values(text, form, len(counts))
+
+    def same_values(self, text, form, records):
+        calls = [call for r in range(records) for call in (count(r), nth(r, 0), nth(r, 3), nth(r, 10 ** 18))]
+        told = ask_all(text, calls)
+        self.assertEqual(told, ask_all(form, calls))
+        rows = [(r, told[4 * r + k][1:]) for r in range(records) for k in (1, 2)]
+        calls = [call(r, *row) for r, row in rows for call in (codes, value, index)]
+        told = ask_all(text, calls)
+        self.assertEqual(told, ask_all(form, calls))
+        calls = [value(r, *answer[1:]) for (r, row), answer in zip(rows, told[::3])]
+        self.assertEqual(ask_all(text, calls), [[len(row), *row] for r, row in rows])
+        self.assertEqual(ask_all(form, calls), [[len(row), *row] for r, row in rows])
 
 
 if __name__ == "__main__":
